@@ -1,0 +1,1 @@
+"""Halvewright: a line cut into halves of halves, and laid anew."""
