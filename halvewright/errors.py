@@ -9,7 +9,7 @@ class NoTree(HalveError):
     """A text is no tree's; `at` is the first place that shows it."""
 
     def __init__(self, at):
-        ValueError.__init__(self, f"no tree's text, as place {at} shows")
+        super().__init__(f"no tree's text, as place {at} shows")
         self.at = at
 
 
@@ -17,7 +17,7 @@ class NoMap(HalveError):
     """Two trees have unlike numbers of leaves; `at` is the lesser one."""
 
     def __init__(self, at):
-        ValueError.__init__(self, f"no map: one tree ends behind {at} leaves, the other goes on")
+        super().__init__(f"no map: one tree ends behind {at} leaves, the other goes on")
         self.at = at
 
 
@@ -25,7 +25,7 @@ class NoBreaks(HalveError):
     """A list of points tells no map; `at` is the first wrong pair's number."""
 
     def __init__(self, at):
-        ValueError.__init__(self, f"no map's list of points, as pair {at} shows")
+        super().__init__(f"no map's list of points, as pair {at} shows")
         self.at = at
 
 
@@ -33,7 +33,7 @@ class NoRow(HalveError):
     """A text is no row; `at` is the first place that shows it."""
 
     def __init__(self, at):
-        ValueError.__init__(self, f"no row, as place {at} shows")
+        super().__init__(f"no row, as place {at} shows")
         self.at = at
 
 
@@ -41,7 +41,7 @@ class NoText(HalveError):
     """A text can't be read; `at` is where that shows."""
 
     def __init__(self, at):
-        ValueError.__init__(self, f"no such text, as number {at} of it shows")
+        super().__init__(f"no such text, as number {at} of it shows")
         self.at = at
 
 
@@ -49,7 +49,7 @@ class Twice(HalveError):
     """A name is given again."""
 
     def __init__(self, name):
-        ValueError.__init__(self, f"the name {name} is given already")
+        super().__init__(f"the name {name} is given already")
         self.name = name
 
 
@@ -57,7 +57,7 @@ class NoName(HalveError):
     """A name is used that was not given ahead."""
 
     def __init__(self, name):
-        ValueError.__init__(self, f"the name {name} is not given ahead")
+        super().__init__(f"the name {name} is not given ahead")
         self.name = name
 
 
@@ -65,7 +65,7 @@ class TooGreat(HalveError):
     """The expression in a row weighs too much."""
 
     def __init__(self, row):
-        ValueError.__init__(self, f"row {row} weighs too much")
+        super().__init__(f"row {row} weighs too much")
         self.row = row
 
 
@@ -73,5 +73,5 @@ class NoUndo(HalveError):
     """What is to be undone in a drawing can't be undone now."""
 
     def __init__(self, at):
-        ValueError.__init__(self, f"nothing to undo, as number {at} shows")
+        super().__init__(f"nothing to undo, as number {at} shows")
         self.at = at

@@ -11,7 +11,7 @@ FILES = sorted(PACKAGE.glob("*.py"))
 BUILTINS = set(
     "len range enumerate zip min max sum abs sorted reversed int str bool bytes list tuple dict set "
     "frozenset isinstance ord repr any all divmod Exception ValueError TypeError KeyError IndexError "
-    "LookupError ZeroDivisionError ArithmeticError OverflowError RuntimeError NotImplementedError".split()
+    "LookupError ZeroDivisionError ArithmeticError OverflowError RuntimeError NotImplementedError super".split()
 )
 METHODS = set(
     "append clear copy count endswith extend find get index insert isalnum isalpha isdigit islower isspace "
@@ -26,7 +26,7 @@ WORDS = set(
 )
 NAMES = set(
     "register mro elements open input version_info with_traceback add_note attrgetter breakpoint compile "
-    "dir eval exec exit gc getattr globals hasattr help id locals os quit setattr super vars sys".split()
+    "dir eval exec exit gc getattr globals hasattr help id locals os quit setattr vars sys".split()
 )
 
 
