@@ -9,6 +9,13 @@ from random import Random
 
 LEAF = ()
 PAIR = ((), ())
+ONE = ((), ())
+A_MOVE = ((PAIR, ()), ((), PAIR))
+B_MOVE = (((), (PAIR, ())), ((), ((), PAIR)))
+MOVES = {
+    "a": A_MOVE, "b": B_MOVE,
+    "A": (A_MOVE[1], A_MOVE[0]), "B": (B_MOVE[1], B_MOVE[0]),
+}
 
 
 def fraction(point):
@@ -210,3 +217,35 @@ def cut_more(chance, mapped, times):
         part = any_tree(chance, chance.randint(2, 3))
         one, other = replaced(one, k, part), replaced(other, k, part)
     return (one, other)
+
+
+def cut_maps(seed, how_many, times=4):
+    chance = Random(seed)
+    return [cut_more(chance, mapped, times) for mapped in some_maps(seed, how_many)]
+
+
+def copied(value):
+    """The same tuples and lists, made anew."""
+    if isinstance(value, (tuple, list)):
+        return type(value)(copied(part) for part in value)
+    return value
+
+
+def way_back(row):
+    return row[::-1].swapcase()
+
+
+def some_rows(seed, how_many, shortest, longest):
+    chance = Random(seed)
+    return [
+        "".join(chance.choice("abAB") for _ in range(chance.randint(shortest, longest)))
+        for _ in range(how_many)
+    ]
+
+
+def moved(n, number, forth=True):
+    """Where move n, or its back, sends a number of the line."""
+    begin = 1 - Fraction(1, 2 ** n)
+    if number <= begin:
+        return number
+    return begin + led(A_MOVE if forth else MOVES["A"], (number - begin) * 2 ** n) / 2 ** n

@@ -7,23 +7,17 @@ from halvewright.errors import NoMap
 from halvewright.maps import back, high, low, made, needless, power, then, trimmed, trimmed_at
 from halvewright.trees import tree_text
 from samples import (
-    LEAF, PAIR, all_trees, chains, corners, cut_more, full_tree, is_map, is_number, led, left_chain,
-    needless_places, parted, plainly_trimmed, right_chain, side_to_side, small_maps, some_maps, some_trees,
-    without_joint,
+    LEAF, ONE, PAIR, all_trees, chains, copied, corners, cut_maps, cut_more, full_tree, is_map, is_number, led,
+    left_chain, needless_places, parted, plainly_trimmed, right_chain, side_to_side, small_maps, some_maps,
+    some_trees, without_joint,
 )
 
-ONE = ((), ())
 MOVE = ((PAIR, ()), ((), PAIR))
 
 
 def maps_to_look_at():
     great = [(one, other) for one in chains(40) for other in chains(40)]
     return small_maps(4) + some_maps(31, 40) + some_maps(32, 10, 60) + great
-
-
-def cut_maps(seed, how_many, times=4):
-    chance = Random(seed)
-    return [cut_more(chance, mapped, times) for mapped in some_maps(seed, how_many)]
 
 
 class MapCase(unittest.TestCase):
@@ -317,10 +311,6 @@ class TestSteadiness(MapCase):
             for k in needless(f):
                 trimmed_at(f, k)
             self.assertEqual(f, before)
-
-
-def copied(tree):
-    return tuple(copied(part) for part in tree)
 
 
 if __name__ == "__main__":

@@ -1,34 +1,14 @@
 """Rows of moves and numbered moves, promises 12 and 13."""
 
 import unittest
-from fractions import Fraction
-from random import Random
 
 from halvewright.errors import NoRow
 from halvewright.maps import back, high, then
 from halvewright.rows import map_of_row, move, numbered, row_of_number
 from halvewright.trees import read_tree
-from samples import PAIR, corners, is_map, is_number, led, needless_places, right_chain
-
-ONE = ((), ())
-A_MOVE = ((PAIR, ()), ((), PAIR))
-B_MOVE = (((), (PAIR, ())), ((), ((), PAIR)))
-MOVES = {
-    "a": A_MOVE, "b": B_MOVE,
-    "A": (A_MOVE[1], A_MOVE[0]), "B": (B_MOVE[1], B_MOVE[0]),
-}
-
-
-def way_back(row):
-    return row[::-1].swapcase()
-
-
-def some_rows(seed, how_many, shortest, longest):
-    chance = Random(seed)
-    return [
-        "".join(chance.choice("abAB") for _ in range(chance.randint(shortest, longest)))
-        for _ in range(how_many)
-    ]
+from samples import (
+    MOVES, ONE, PAIR, corners, is_map, is_number, led, moved, needless_places, right_chain, some_rows, way_back,
+)
 
 
 class RowCase(unittest.TestCase):
@@ -146,13 +126,8 @@ class TestNumbered(RowCase):
 
     def test_point_by_point(self):
         for n in range(31):
-            begin = 1 - Fraction(1, 2 ** n)
             for number in corners(numbered(n)):
-                goal = led(numbered(n), number)
-                if number <= begin:
-                    self.assertEqual(goal, number)
-                else:
-                    self.assertEqual(goal, begin + led(A_MOVE, (number - begin) * 2 ** n) / 2 ** n)
+                self.assertEqual(led(numbered(n), number), moved(n, number))
 
     def test_rows(self):
         for n in range(31):
