@@ -40,8 +40,9 @@ def hung(side):
     are leaves alone.
     """
     steps = dict(side)
+    greatest = side[-1][0] if side else 0
     parts = []
-    for k in reversed(range(side[-1][0] + 1 if side else 0)):
+    for k in range(greatest, -1, -1):
         tree, many = (), 1
         for step in range(steps.get(k, 0)):
             right, more = parts.pop() if parts else ((), 1)

@@ -171,6 +171,14 @@ class TestExpressions(unittest.TestCase):
                             self.assertIsInstance(right, ast.Constant)
                             self.assertIn(right.value, (None, True, False))
 
+    def test_what_is_iterated_at_once_is_not_stored(self):
+        lazy = {"zip", "enumerate", "reversed", "range", "items", "keys", "values"}
+        for file in FILES:
+            for part in ast.walk(parsed(file)):
+                if isinstance(part, (ast.Assign, ast.Return)) and isinstance(part.value, ast.Call):
+                    called = part.value.func
+                    self.assertNotIn(getattr(called, "id", getattr(called, "attr", None)), lazy, (file, part.lineno))
+
     def test_no_function_calls_itself(self):
         for file in FILES:
             for function in functions(parsed(file)):

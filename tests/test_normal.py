@@ -375,17 +375,20 @@ class TestNoText(unittest.TestCase):
         for text, at in wanted.items():
             self.assertEqual(self.refused(text), at, text)
 
+    def check(self, text):
+        at = plain_at(text)
+        if at is None:
+            self.assertEqual(normal_text(read_normal(text)), text)
+        else:
+            self.assertEqual(self.refused(text), at, text)
+        return at
+
     def test_any_signs(self):
         chance = Random(218)
         seen = set()
         for _ in range(20000):
             text = "".join(chance.choice("0001123 9  //^^x") for _ in range(chance.randint(0, 9)))
-            at = plain_at(text)
-            seen.add(at)
-            if at is None:
-                self.assertEqual(normal_text(read_normal(text)), text)
-            else:
-                self.assertEqual(self.refused(text), at, text)
+            seen.add(self.check(text))
         self.assertTrue({None, 0, 1, 2, 3} <= seen)
 
     def test_any_words(self):
@@ -394,12 +397,7 @@ class TestNoText(unittest.TestCase):
         seen = set()
         for _ in range(20000):
             text = " ".join(chance.choice(words) for _ in range(chance.randint(1, 5)))
-            at = plain_at(text)
-            seen.add(at)
-            if at is None:
-                self.assertEqual(normal_text(read_normal(text)), text)
-            else:
-                self.assertEqual(self.refused(text), at, text)
+            seen.add(self.check(text))
         self.assertEqual(seen, {None, 0, 1, 2, 3, 4, 5})
 
 
