@@ -55,6 +55,14 @@ def local_names(function):
     return found
 
 
+def classes():
+    return [part for file in FILES for part in parsed(file).body if isinstance(part, ast.ClassDef)]
+
+
+def own_methods():
+    return {row.name for part in classes() for row in part.body if isinstance(row, ast.FunctionDef)}
+
+
 def functions(tree):
     return [part for part in ast.walk(tree) if isinstance(part, ast.FunctionDef)]
 
@@ -146,10 +154,32 @@ class TestNames(unittest.TestCase):
                     self.assertIn(part.id, BUILTINS, file)
 
     def test_methods(self):
+        allowed = METHODS | own_methods()
         for file in FILES:
             for part in ast.walk(parsed(file)):
                 if isinstance(part, ast.Call) and isinstance(part.func, ast.Attribute):
-                    self.assertIn(part.func.attr, METHODS, file)
+                    self.assertIn(part.func.attr, allowed, file)
+
+    def test_methods_and_attributes_have_names_of_their_own(self):
+        stored = {
+            part.attr for file in FILES for part in ast.walk(parsed(file))
+            if isinstance(part, ast.Attribute) and isinstance(part.ctx, ast.Store)
+        }
+        methods = own_methods() - {"__init__"}
+        self.assertEqual(stored & methods, set())
+        builtin_names = {name for kind in (str, int, list, dict, set, bytes, tuple) for name in dir(kind)}
+        self.assertEqual((stored | methods) & builtin_names, set())
+
+    def test_classes_define_what_the_interface_lists(self):
+        listed = {"Drawing": {"undoes", "undo", "knots", "rings"}}
+        found = {part.name: {getattr(row, "name", None) for row in part.body} for part in classes()}
+        for name, methods in listed.items():
+            self.assertLessEqual(methods, found[name])
+
+    def test_one_lambda_on_a_line(self):
+        for file in FILES:
+            lines = [part.lineno for part in ast.walk(parsed(file)) if isinstance(part, ast.Lambda)]
+            self.assertEqual(len(lines), len(set(lines)), file)
 
 
 class TestExpressions(unittest.TestCase):
