@@ -128,12 +128,18 @@ def map_of(expr, names):
     return worked_out(expr, names, map_step)
 
 
+def map_of_next(row, names):
+    """The map of the row behind those of the names, a dict to maps, or Twice, NoName or TooGreat."""
+    name, expr = row
+    if name in names:
+        raise Twice(name)
+    let_by(expr, names, len(names))
+    return worked_out(expr, names, map_step)
+
+
 def maps_of(program):
     """A dict from the program's names to their maps, in order, or Twice, NoName or TooGreat."""
     names = {}
-    for at, (name, expr) in enumerate(program):
-        if name in names:
-            raise Twice(name)
-        let_by(expr, names, at)
-        names[name] = worked_out(expr, names, map_step)
+    for row in program:
+        names[row[0]] = map_of_next(row, names)
     return names

@@ -171,7 +171,7 @@ class TestNames(unittest.TestCase):
         self.assertEqual((stored | methods) & builtin_names, set())
 
     def test_classes_define_what_the_interface_lists(self):
-        listed = {"Drawing": {"undoes", "undo", "knots", "rings"}}
+        listed = {"Drawing": {"undoes", "undo", "knots", "rings"}, "Desk": {"say"}}
         found = {part.name: {getattr(row, "name", None) for row in part.body} for part in classes()}
         for name, methods in listed.items():
             self.assertLessEqual(methods, found[name])
