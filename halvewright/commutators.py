@@ -27,23 +27,23 @@ def runs_of(row):
     return runs
 
 
-def drawn_ahead(row, letter):
-    """Pairs of maps whose commutators, one behind another, are those of the row, as all of the letter is drawn ahead.
+def pairs_of(row):
+    """Pairs of maps whose commutators, one behind another, are the map of the row, in which a and b cancel.
 
-    What was gone through is always some commutators, then x^i, then y^j, x
-    being the letter's move and y the other one. Behind it x^n is drawn ahead of
-    y^j: there comes the commutator of x^i, y^j, x^-i and of x^n.
+    What was gone through is always some commutators, then a^i, then b^j. Behind
+    these a^n is drawn ahead of b^j: there comes the commutator of a^i b^j and a^n.
+    For each of them there is a run of a and one of b: so they are at most half as
+    many as the row's moves.
     """
-    x = move(letter)
-    y = move("b" if letter == "a" else "a")
+    a, b = move("a"), move("b")
     pairs = []
     i, j = 0, 0
-    for run, times in runs_of(row):
-        if run != letter:
+    for letter, times in runs_of(row):
+        if letter == "b":
             j += times
             continue
         if j != 0:
-            pairs.append((then(then(power(x, i), power(y, j)), power(x, -i)), power(x, times)))
+            pairs.append((then(power(a, i), power(b, j)), power(a, times)))
         i += times
     return pairs
 
@@ -53,7 +53,5 @@ def commutators(mapped):
     e, other = ends(mapped)
     if (e, other) != (0, 0):
         return ("ends", e, other)
-    row = shortest(mapped)
-    # By the rarer letter they are at most half as many as the row's moves.
-    moves = row.lower()
-    return ("made", drawn_ahead(row, "a" if moves.count("a") < moves.count("b") else "b"))
+    # By a both ends change, by b the one at 1 alone: so where both are 0, each letter comes as often forth as back.
+    return ("made", pairs_of(shortest(mapped)))

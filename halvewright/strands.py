@@ -11,15 +11,20 @@ from halvewright.trees import tree_of
 WHOLE_LINE = (((0, 0), (0, 0)),)
 
 
-def cut_once(piece):
-    """The two pieces that come where the piece is cut at half."""
-    (n, d), (m, e) = piece
-    return (((2 * n, d + 1), (2 * m, e + 1)), ((2 * n + 1, d + 1), (2 * m + 1, e + 1)))
+def first_stretch(strand):
+    """The first of the stretches of the whole line on which the strand lies."""
+    return strand[0][0]
+
+
+def cut_once(here):
+    """The two pieces that come where a strand of a single piece, the stretch here, is cut at half."""
+    n, d = here
+    return (((2 * n, d + 1), (0, 1)), ((2 * n + 1, d + 1), (1, 1)))
 
 
 def halves(strand):
     """The two strands on the left and on the right half of the strand's own line."""
-    pieces = cut_once(strand[0]) if len(strand) == 1 else strand
+    pieces = cut_once(first_stretch(strand)) if len(strand) == 1 else strand
     found = ([], [])
     for here, (n, d) in pieces:
         side = n >> (d - 1)
@@ -36,14 +41,9 @@ def joined(left, right):
     return tuple(found)
 
 
-def begin_of(strand):
-    """Where the strand begins on the whole line, as (n, d)."""
-    return strand[0][0]
-
-
 def places_of(strands):
     """For each strand a number that is greater, the further right it lies."""
-    found = [begin_of(strand) for strand in strands]
+    found = [first_stretch(strand) for strand in strands]
     deepest = max([d for n, d in found])
     return [n << (deepest - d) for n, d in found]
 

@@ -15,14 +15,19 @@ def ways_at(ways, knot):
     return found
 
 
-def levels_from(ways, knot):
-    """The levels of all knots of the ring, begun at the knot: a dict in the order of their numbers."""
+def all_ways(ways):
+    """A dict from each knot to its ways."""
+    return {knot: ways_at(ways, knot) for knot in ways.all_knots()}
+
+
+def levels_from(around, knot):
+    """The levels of all knots of the ring, begun at the knot, around being all ways: a dict in the order of numbers."""
     levels = {knot: 0}
     order = [knot]
     at = 0
     while at < len(order):
         here = order[at]
-        for there, rise in ways_at(ways, here):
+        for there, rise in around[here]:
             if there not in levels:
                 levels[there] = levels[here] + rise
                 order.append(there)
@@ -45,19 +50,21 @@ def told_by(ways, levels):
     return tuple(rows)
 
 
-def least_levels(ways, knots):
+def least_levels(ways, around, knots):
     """The levels by which the ring of these knots is told: those of the least telling of all."""
-    found = [levels_from(ways, knot) for knot in knots]
+    # A ring has as many meets as splits, and a telling that begins with a meet is less than one with a split.
+    found = [levels_from(around, knot) for knot in knots if knot[0] == "meet"]
     return min(found, key=lambda levels: told_by(ways, levels))
 
 
 def knotted_rings(ways):
     """For each ring with knots the list of these."""
+    around = all_ways(ways)
     found = []
     seen = set()
-    for knot in ways.all_knots():
+    for knot in around:
         if knot not in seen:
-            ring = list(levels_from(ways, knot))
+            ring = list(levels_from(around, knot))
             for other in ring:
                 seen.add(other)
             found.append(ring)
@@ -83,4 +90,5 @@ def in_order(ways):
 
 def levels_in_order(ways):
     """For each ring, from left to right, the levels by which it is told; of a loop none."""
-    return [least_levels(ways, knots) if knots else {} for knots, loop in in_order(ways)]
+    around = all_ways(ways)
+    return [least_levels(ways, around, knots) if knots else {} for knots, loop in in_order(ways)]

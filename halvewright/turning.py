@@ -26,7 +26,8 @@ def turn_to(links, goal):
     waiting = [0]
     while waiting:
         knot = waiting.pop()
-        for (there, end, turns), (image, its_end, its_turns) in zip(links[knot], links[images[knot]]):
+        mine, its = links[knot], links[images[knot]]
+        for (there, end, turns), (image, its_end, its_turns) in zip(mine, its):
             rise = rises[knot] + its_turns - turns
             if there not in images:
                 images[there] = image
